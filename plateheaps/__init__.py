@@ -1,0 +1,1 @@
+"""Plateheaps: flat plates laid over one another, and what half planes meet of them."""
