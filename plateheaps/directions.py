@@ -52,13 +52,9 @@ def comes_ahead(u, v):
 
 def in_arc(u, v, w):
     """Tell whether w is in the arc counterclockwise from u to v, both left out."""
-    if w == u or w == v:
-        return False
-    if u == v:
-        return True
     if comes_ahead(u, v):
         return comes_ahead(u, w) and comes_ahead(w, v)
-    # The arc goes over (1, 0), where round order begins anew.
+    # The arc goes over (1, 0), where round order begins anew, or, if u is v, all round.
     return comes_ahead(u, w) or comes_ahead(w, v)
 
 

@@ -53,3 +53,22 @@ def turn(p, q, r):
     if left < 0:
         return -1
     return 0
+
+
+def fineness(places):
+    """Return a number with which place_key puts all these places in order."""
+    # Unlike fractions with denominators up to m lie at least 1 / (m m) apart: times
+    # m m, rounded down, they are unlike still, and in the same order.
+    greatest = max([p[2] for p in places], default=1)
+    return greatest * greatest
+
+
+def place_key(p, fine):
+    """Return two integers that stand for the place among those that fineness was told of."""
+    return (p[0] * fine // p[2], p[1] * fine // p[2])
+
+
+def ascending(places):
+    """Return the list of the places in their order."""
+    fine = fineness(places)
+    return sorted(places, key=lambda p: place_key(p, fine))

@@ -1,0 +1,91 @@
+"""How plates are laid: cut, met, put to one another, mirrored, led by maps, their insides."""
+
+from math import gcd
+
+from plateheaps.directions import back, towards
+from plateheaps.halfplanes import excess, half_at
+from plateheaps.kinds import are_numbers
+from plateheaps.places import moved, place, scaled
+from plateheaps.plates import has_place, hull, sides, ways
+
+
+def cut_off(plane, p, q):
+    """Return the place between p, beyond the half plane's line, and q, not in the half plane, on the line."""
+    over, under = excess(plane, p), excess(plane, q)
+    return place(over * q[0] - under * p[0], over * q[1] - under * p[1], over * q[2] - under * p[2])
+
+
+def cut_plate(plate, plane):
+    """Return the plate of the places that the plate and the half plane both have, None if there are none."""
+    kept = [p for p in plate if excess(plane, p) >= 0]
+    if len(kept) == len(plate):
+        return plate
+    if len(kept) == 0:
+        return None
+    for p, q in ways(plate):
+        if excess(plane, p) > 0 > excess(plane, q):
+            kept.append(cut_off(plane, p, q))
+        elif excess(plane, q) > 0 > excess(plane, p):
+            kept.append(cut_off(plane, q, p))
+    return hull(kept)
+
+
+def bounds(plate):
+    """Return half planes that together have the places of the plate, which is no point, alone."""
+    found = [half_at(back(u), p) for u, p, q in sides(plate)]
+    if len(plate) > 2:
+        return found
+    along = towards(plate[0], plate[1])
+    return found + [half_at(along, plate[0]), half_at(back(along), plate[1])]
+
+
+def meet(one, other):
+    """Return the plate of the places that both plates have, None if there are none."""
+    if len(one) == 1 or len(other) == 1:
+        small, great = (one, other) if len(one) == 1 else (other, one)
+        return small if has_place(great, small[0]) else None
+    left = one
+    for plane in bounds(other):
+        left = cut_plate(left, plane)
+        if left is None:
+            return None
+    return left
+
+
+def put(one, other):
+    """Return the plate of all sums of a place of the one and a place of the other."""
+    return hull([moved(p, q) for p in one for q in other])
+
+
+def mirror(plate):
+    """Return the plate of the opposite places."""
+    return hull([scaled(p, -1, 1) for p in plate])
+
+
+def is_map(value):
+    if not are_numbers(value, 7) or value[6] < 1:
+        return False
+    a, b, c, d, e, f, n = value
+    return gcd(a, b, c, d, e, f, n) == 1
+
+
+def led_place(p, leading):
+    """Return the place to which a map leads a place."""
+    a, b, c, d, e, f, n = leading
+    x, y, down = p
+    return place(a * x + b * y + e * down, c * x + d * y + f * down, n * down)
+
+
+def led(plate, leading):
+    """Return the plate of all places to which a map leads the plate's places."""
+    return hull([led_place(p, leading) for p in plate])
+
+
+def inside(plate):
+    """Return the pairs (plate, weight) that add up to 1 inside the plate, to 0 elsewhere."""
+    points = [((p,), 1) for p in plate]
+    if len(plate) == 1:
+        return points
+    if len(plate) == 2:
+        return [(plate, 1)] + [(point, -1) for point, weight in points]
+    return [(plate, 1)] + [(hull([p, q]), -1) for p, q in ways(plate)] + points
