@@ -9,12 +9,12 @@ from plateheaps.places import ascending, comes_first, is_place, turn
 
 def left_turns(row):
     """Return the least chain of the row's places, from end to end, that turns left alone."""
-    chain = []
+    path = []
     for p in row:
-        while len(chain) > 1 and turn(chain[-2], chain[-1], p) < 1:
-            chain.pop()
-        chain.append(p)
-    return chain
+        while len(path) > 1 and turn(path[-2], path[-1], p) < 1:
+            path.pop()
+        path.append(p)
+    return path
 
 
 def hull(places):
