@@ -68,3 +68,19 @@ def between(u, v):
     if leaning(u, v) < 0:
         return back(middle)
     return middle
+
+
+def round_key(u, fine):
+    """Return three integers that stand for the direction in round order; in_round_order tells fine."""
+    a, b = u if is_upper(u) else back(u)
+    turned = 0 if is_upper(u) else 1
+    return (turned, 0, 0) if b == 0 else (turned, 1, -a * fine // b)
+
+
+def in_round_order(directions):
+    """Return the list of the directions, each once, in round order."""
+    # In each half of the round a / b falls; fine tells two such fractions apart when rounded.
+    greatest = max([abs(u[1]) for u in directions], default=0)
+    fine = greatest * greatest
+    once = {u: True for u in directions}
+    return sorted(list(once), key=lambda u: round_key(u, fine))

@@ -36,3 +36,13 @@ def divided(s, t):
 
 def is_less(s, t):
     return s[0] * t[1] < t[0] * s[1]
+
+
+def ascending_fractions(fractions):
+    """Return the list of the fractions, each once, ascending."""
+    # Unlike fractions with q up to m lie at least 1 / (m m) apart: times m m, rounded
+    # down, they are unlike still, and in the same order.
+    greatest = max([s[1] for s in fractions], default=1)
+    fine = greatest * greatest
+    once = {s: True for s in fractions}
+    return sorted(list(once), key=lambda s: s[0] * fine // s[1])

@@ -22,3 +22,11 @@ def copied(value):
     if isinstance(value, dict):
         return {key: copied(value[key]) for key in value}
     return value
+
+
+def added_up(pairs):
+    """Return the dict from the first parts of the pairs to the sums of their second parts."""
+    sums = {}
+    for key, weight in pairs:
+        sums[key] = sums.get(key, 0) + weight
+    return sums

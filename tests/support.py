@@ -3,6 +3,10 @@
 from fractions import Fraction
 from math import lcm
 
+from plateheaps.heaps import Heap
+from plateheaps.laying import inside
+from plateheaps.plates import hull
+
 
 class Unlike:
     """An object that the package knows nothing of."""
@@ -16,6 +20,19 @@ def odd_values():
         ([1], 2), ([1, 2, 1],), (1, [2], 1), ({}, 1), ({}, 1, 1), ((1, 2), 1), (1, (2, 1)), ((1, 2, 1),) * 2,
         (True, False), (True, 2), (1, True), (False, 1), (True, 0, 1), (0, True, 1), (1, 2, True), (False, False, True),
         (1,), (1, 2, 3, 4), "\t\n ~", Unlike,
+    ]
+
+
+def great_values():
+    """Return values of many parts, or deep ones, or of long numbers, that are nothing the package knows."""
+    deep = 1
+    for k in range(29):
+        deep = (deep,) if k % 3 else [deep]
+    n = 10 ** 40 - 1
+    return [
+        deep, (deep, 1), ((1, 2), deep, 1), tuple(range(1999)), (n, n), (n, 1), (n, n - 1, n), ((n, n), n, n),
+        tuple([((k, 1), k) for k in range(400)]), {k: (k,) for k in range(900)}, Heap([]), (Heap([]),),
+        ((1, 0), Heap([]), 1), (((1, 0), 1, Heap([])),), "a" * 1900, (1, 0, {"a": [None]}),
     ]
 
 
@@ -108,3 +125,83 @@ def halves():
         (1, 0, 0), (-1, 0, 0), (0, 1, 0), (0, -1, 0), (1, 0, 2), (-1, 0, -2), (0, 2, 1), (1, 1, 2), (-1, -1, -2),
         (1, -1, 0), (2, 4, 3), (-2, -4, -3), (3, -2, 1), (1, 1, 12), (-1, -1, -12), (2, -1, -3), (0, 1, 2), (-7, 5, 1),
     ]
+
+
+def worth(s):
+    """Return what a fraction stands for."""
+    return Fraction(s[0], s[1])
+
+
+def as_fraction(x):
+    """Return the fraction that stands for a Fraction, an integer or a text such as "1/2"."""
+    return (Fraction(x).numerator, Fraction(x).denominator)
+
+
+def along(u, p):
+    """Return the height of a place along a direction, a Fraction."""
+    x, y = at(p)
+    return u[0] * x + u[1] * y
+
+
+class Dice:
+    """Numbers that look thrown, but are the same at each run."""
+
+    def __init__(self, seed):
+        self.seed = seed
+
+    def throw(self, low, high):
+        self.seed = (self.seed * 6364136223846793005 + 1442695040888963407) % 2 ** 64
+        return low + (self.seed >> 33) % (high - low + 1)
+
+    def place(self, limit, down):
+        d = self.throw(1, down)
+        return as_place(Fraction(self.throw(-limit, limit), d), Fraction(self.throw(-limit, limit), d))
+
+    def plate(self, limit, down, corners=4):
+        return hull([self.place(limit, down) for _ in range(self.throw(1, corners))])
+
+    def heap(self, rows, limit=3, down=2, corners=4):
+        return Heap([(self.plate(limit, down, corners), self.throw(-2, 2)) for _ in range(rows)])
+
+
+def some_heaps():
+    """Return heaps of all kinds, the empty one among them."""
+    told = zoo()
+    found = [Heap([]), Heap([(told["origin"], 1)]), Heap([(told["flat"], -2)]), Heap([(told["tri"], 1)])]
+    found += [Heap([(told["box"], 3), (told["tri"], -1), (told["flat"], 1), (told["lone"], 4)])]
+    found += [Heap([(plate, k - 7 or 99) for k, plate in enumerate(told.values())])]
+    found += [Heap([(part, 2 * weight) for part, weight in inside(told["five"])])]
+    return found + [Dice(seed).heap(2 + seed) for seed in range(6)]
+
+
+def alike_pairs():
+    """Return pairs of unequal heaps that look alike everywhere."""
+    texts = [
+        ([("0,0 2,0", 1)], [("0,0 1,0", 1), ("1,0 2,0", 1), ("1,0", -1)]),
+        ([("0,0 2,0 0,2", 2)], [("0,0 1,1 0,2", 2), ("0,0 2,0 1,1", 2), ("0,0 1,1", -2)]),
+        ([("0,0 1,0 1,1 0,1", 1), ("1,0 2,0 2,1 1,1", 1)], [("0,0 2,0 2,1 0,1", 1), ("1,0 1,1", 1)]),
+        ([], [("-1,0 1,0", 1), ("-1,0 0,0", -1), ("0,0 1,0", -1), ("0,0", 1)]),
+        ([("0,0 3,0", 1), ("1,0 2,0", -1)], [("0,0 1,0", 1), ("2,0 3,0", 1), ("1,0", -1), ("2,0", -1)]),
+    ]
+    return [tuple(heap_told(rows) for rows in pair) for pair in texts]
+
+
+def twelve_corners():
+    """Return a plate of twelve corners, whose sides with back normals are unlike in length."""
+    ways = [(3, 0), (4, 1), (2, 2), (1, 4), (0, 1), (-1, 2), (-2, 2), (-3, 1), (-1, 0), (-3, -4), (-1, -3), (1, -6)]
+    places = [(0, 0, 1)]
+    for x, y in ways:
+        places.append((places[-1][0] + x, places[-1][1] + y, 1))
+    return hull(places)
+
+
+def heap_told(rows):
+    """Return the heap of rows of a text of corners, in their order, and a weight."""
+    return Heap([(tuple(points_of(text)), weight) for text, weight in rows])
+
+
+def places_beside(heap):
+    """Return the corners of a heap's plates, middles between any two, and the places of small_places."""
+    corners = sorted({p for plate, _ in heap.rows() for p in plate}, key=at)[:12]
+    middles = [as_place((at(p)[0] + at(q)[0]) / 2, (at(p)[1] + at(q)[1]) / 2) for p in corners for q in corners]
+    return sorted(set(corners + middles + small_places()), key=at)
