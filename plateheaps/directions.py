@@ -72,7 +72,7 @@ def between(u, v):
 
 def round_key(u, fine):
     """Return three integers that stand for the direction in round order; in_round_order tells fine."""
-    a, b = u if is_upper(u) else back(u)
+    a, b = u
     turned = 0 if is_upper(u) else 1
     return (turned, 0, 0) if b == 0 else (turned, 1, -a * fine // b)
 

@@ -52,9 +52,37 @@ def meet(one, other):
     return left
 
 
+def ways_on(plate):
+    """Return pairs of integers that lead, up to their size, from each corner to the next one."""
+    return [(q[0] * p[2] - p[0] * q[2], q[1] * p[2] - p[1] * q[2]) for p, q in ways(plate)]
+
+
+def leads_first(u, v):
+    """Tell whether u comes ahead of v counterclockwise from straight down, which itself comes last."""
+    if (u > (0, 0)) != (v > (0, 0)):
+        return u > (0, 0)
+    return u[0] * v[1] > u[1] * v[0]
+
+
 def put(one, other):
     """Return the plate of all sums of a place of the one and a place of the other."""
-    return hull([moved(p, q) for p in one for q in other])
+    if len(one) == 1 or len(other) == 1:
+        return tuple([moved(p, q) for p in one for q in other])
+    # From the least corner on, where the least ones come together, the sides of both
+    # follow one another by their directions; those of one direction become one side.
+    left, right = ways_on(one), ways_on(other)
+    found = []
+    k = n = 0
+    while k < len(left) or n < len(right):
+        found.append(moved(one[k % len(one)], other[n % len(other)]))
+        if n == len(right) or (k < len(left) and leads_first(left[k], right[n])):
+            k += 1
+        elif k == len(left) or leads_first(right[n], left[k]):
+            n += 1
+        else:
+            k += 1
+            n += 1
+    return tuple(found)
 
 
 def mirror(plate):

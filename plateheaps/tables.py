@@ -111,12 +111,14 @@ def has_table_form(value):
 
 
 def changes_at_breaks(told):
-    """Return the dict from each break to the list of the pairs (place, change of its weight there)."""
+    """Return the dict from each break to the list of the pairs (place, change of its weight there).
+
+    A place with one weight all round has its change, 0, at (1, 0).
+    """
     found = {}
     for p, arcs in told:
-        if len(arcs) > 1:
-            for k, (u, weight) in enumerate(arcs):
-                found.setdefault(u, []).append((p, weight - arcs[k - 1][1]))
+        for k, (u, weight) in enumerate(arcs):
+            found.setdefault(u, []).append((p, weight - arcs[k - 1][1]))
     return found
 
 

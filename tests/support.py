@@ -3,6 +3,7 @@
 from fractions import Fraction
 from math import lcm
 
+from plateheaps.directions import between, in_arc, quarter, towards
 from plateheaps.heaps import Heap
 from plateheaps.laying import inside
 from plateheaps.plates import hull
@@ -30,7 +31,7 @@ def great_values():
         deep = (deep,) if k % 3 else [deep]
     n = 10 ** 40 - 1
     return [
-        deep, (deep, 1), ((1, 2), deep, 1), tuple(range(1999)), (n, n), (n, 1), (n, n - 1, n), ((n, n), n, n),
+        deep, (deep, 1), ((1, 2), deep, 1), tuple(range(1999)), (n, n), (n, 1), (n, n, n), ((n, n), n, n),
         tuple([((k, 1), k) for k in range(400)]), {k: (k,) for k in range(900)}, Heap([]), (Heap([]),),
         ((1, 0), Heap([]), 1), (((1, 0), 1, Heap([])),), "a" * 1900, (1, 0, {"a": [None]}),
     ]
@@ -205,3 +206,72 @@ def places_beside(heap):
     corners = sorted({p for plate, _ in heap.rows() for p in plate}, key=at)[:12]
     middles = [as_place((at(p)[0] + at(q)[0]) / 2, (at(p)[1] + at(q)[1]) / 2) for p in corners for q in corners]
     return sorted(set(corners + middles + small_places()), key=at)
+
+
+def slope_key(u):
+    """Return a key for round order."""
+    a, b = u
+    upper = b > 0 or (b == 0 and a > 0)
+    if b == 0:
+        return (not upper, 0, 0)
+    return (not upper, 1, -worth((a, b)))
+
+
+def round_sorted(directions):
+    return sorted(set(directions), key=slope_key)
+
+
+def weights_at(heap, u):
+    """Return the far weights of all places at a direction that is no normal, those of 0 left out."""
+    found = {}
+    for plate, weight in heap.rows():
+        best = max(along(u, p) for p in plate)
+        far = [p for p in plate if along(u, p) == best]
+        assert len(far) == 1
+        found[far[0]] = found.get(far[0], 0) + weight
+    return {p: found[p] for p in found if found[p]}
+
+
+def normals_of(heap):
+    """Return the directions across each two corners of each plate, in round order: the normals among them."""
+    found = []
+    for plate, _ in heap.rows():
+        for p in plate:
+            found += [quarter(towards(p, q)) for q in plate if q != p]
+    return round_sorted(found)
+
+
+def told_table(heap):
+    """Return the table, worked out by one direction on each arc between normals."""
+    normals = normals_of(heap)
+    if not normals:
+        return tuple((p, (((1, 0), w),)) for p, w in sorted(weights_at(heap, (1, 0)).items(), key=lambda row: at(row[0])))
+    looks = [weights_at(heap, between(u, v)) for u, v in zip(normals, normals[1:] + normals[:1])]
+    found = []
+    for p in sorted({p for far in looks for p in far}, key=at):
+        weights = [far.get(p, 0) for far in looks]
+        arcs = [(normals[k], weights[k]) for k in range(len(normals)) if weights[k] != weights[k - 1]]
+        found.append((p, tuple(arcs) or (((1, 0), weights[0]),)))
+    return tuple(found)
+
+
+def breaks_told(told):
+    return round_sorted([u for _, arcs in told if len(arcs) > 1 for u, _ in arcs])
+
+
+def told_arcs(told):
+    """Return the arcs of a table, worked out by one direction on each arc between its breaks."""
+    breaks = breaks_told(told)
+    found = []
+    for u, v in zip(breaks, breaks[1:] + breaks[:1]):
+        w = between(u, v)
+        found.append((w, [(p, weight_told(arcs, w)) for p, arcs in told if weight_told(arcs, w)]))
+    return found or [((1, 0), [(p, arcs[0][1]) for p, arcs in told])]
+
+
+def weight_told(arcs, w):
+    """Return the weight of a place at a direction that is no break."""
+    for k, (u, weight) in enumerate(arcs):
+        if len(arcs) == 1 or in_arc(u, arcs[(k + 1) % len(arcs)][0], w):
+            return weight
+    raise AssertionError((arcs, w))

@@ -4,6 +4,7 @@ import ast
 import builtins
 import os
 import unittest
+from functools import cache
 
 PACKAGE = os.path.join(os.path.dirname(os.path.dirname(os.path.abspath(__file__))), "plateheaps")
 
@@ -41,6 +42,7 @@ def text_of(name):
         return file.read()
 
 
+@cache
 def trees():
     return [(name, ast.parse(text_of(name))) for name in files()]
 

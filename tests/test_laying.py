@@ -7,7 +7,7 @@ from plateheaps.halfplanes import half, has
 from plateheaps.laying import cut_plate, inside, is_map, led, led_place, meet, mirror, put
 from plateheaps.places import comes_first, moved
 from plateheaps.plates import hull, is_plate
-from support import as_place, at, grid, halves, is_in, odd_values, points_of, small_places, zoo
+from support import Dice, as_place, at, grid, halves, is_in, odd_values, points_of, small_places, zoo
 
 MAPS = [
     (1, 0, 0, 1, 0, 0, 1), (0, -1, 1, 0, 1, 0, 2), (1, 0, 0, 0, 0, 0, 1), (0, 0, 0, 0, 3, -1, 2),
@@ -122,6 +122,12 @@ class Putting(unittest.TestCase):
                 for p in sums:
                     self.assertTrue(is_in(whole, p))
                 self.assertTrue(set(whole) <= set(sums))
+
+    def test_the_hull_of_all_sums(self):
+        dice = Dice(7)
+        for k in range(600):
+            one, other = dice.plate(k % 4 + 1, k % 3 + 1, k % 7 + 1), dice.plate(k % 3 + 1, k % 4 + 1, k % 5 + 1)
+            self.assertEqual(put(one, other), hull([moved(p, q) for p in one for q in other]))
 
     def test_points_stretches_and_pieces(self):
         self.assertEqual(put(zoo()["point"], zoo()["point"]), plate_of("1,2"))

@@ -277,7 +277,8 @@ class OneStretch(unittest.TestCase):
     def test_others(self):
         for steps in ((), steps_told("0 2 0"), steps_told("0 1 1", "1 2 1", "2 1 0"), steps_told("0 0 2", "1 0 0"),
                       steps_told("0 1 1", "1 0 0"), steps_told("0 0 1", "1 1 0"), steps_told("0 1 2", "1 2 0"),
-                      steps_told("0 -3 -3", "1 -3 0"), steps_told("0 1 0", "1 1 0")):
+                      steps_told("0 -3 -3", "1 -3 0"), steps_told("0 1 0", "1 1 0"),
+                      steps_told("0 2 2", "1 1 1", "3 1 0"), steps_told("0 1 1", "1 1 2", "2 2 0")):
             self.assertIsNone(stretch_of(steps), steps)
 
 

@@ -11,60 +11,9 @@ from plateheaps.plates import hull
 from plateheaps.rounds import round_of, round_sum
 from plateheaps.tables import half_by, judge_table, look_by, table, total_by
 from support import (
-    Dice, along, alike_pairs, at, great_values, grid, halves, heap_told, odd_numbers, odd_values, places_beside,
-    points_of, small_directions, some_heaps, twelve_corners, worth,
+    Dice, alike_pairs, breaks_told, great_values, grid, halves, heap_told, odd_numbers, odd_values, places_beside,
+    points_of, round_sorted, small_directions, some_heaps, told_table, twelve_corners,
 )
-
-
-def slope_key(u):
-    """Return a key for round order."""
-    a, b = u
-    upper = b > 0 or (b == 0 and a > 0)
-    if b == 0:
-        return (not upper, 0, 0)
-    return (not upper, 1, -worth((a, b)))
-
-
-def round_sorted(directions):
-    return sorted(set(directions), key=slope_key)
-
-
-def weights_at(heap, u):
-    """Return the far weights of all places at a direction that is no normal, those of 0 left out."""
-    found = {}
-    for plate, weight in heap.rows():
-        best = max(along(u, p) for p in plate)
-        far = [p for p in plate if along(u, p) == best]
-        assert len(far) == 1
-        found[far[0]] = found.get(far[0], 0) + weight
-    return {p: found[p] for p in found if found[p]}
-
-
-def normals_of(heap):
-    """Return the directions across each two corners of each plate, in round order: the normals among them."""
-    found = []
-    for plate, _ in heap.rows():
-        for p in plate:
-            found += [quarter(towards(p, q)) for q in plate if q != p]
-    return round_sorted(found)
-
-
-def told_table(heap):
-    """Return the table, worked out by one direction on each arc between normals."""
-    normals = normals_of(heap)
-    if not normals:
-        return tuple((p, (((1, 0), w),)) for p, w in sorted(weights_at(heap, (1, 0)).items(), key=lambda row: at(row[0])))
-    looks = [weights_at(heap, between(u, v)) for u, v in zip(normals, normals[1:] + normals[:1])]
-    found = []
-    for p in sorted({p for far in looks for p in far}, key=at):
-        weights = [far.get(p, 0) for far in looks]
-        arcs = [(normals[k], weights[k]) for k in range(len(normals)) if weights[k] != weights[k - 1]]
-        found.append((p, tuple(arcs) or (((1, 0), weights[0]),)))
-    return tuple(found)
-
-
-def breaks_told(told):
-    return round_sorted([u for _, arcs in told if len(arcs) > 1 for u, _ in arcs])
 
 
 def shape(corners, w=1):
