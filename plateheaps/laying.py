@@ -10,9 +10,15 @@ from plateheaps.plates import has_place, hull, sides, ways
 
 
 def cut_off(plane, p, q):
-    """Return the place between p, beyond the half plane's line, and q, not in the half plane, on the line."""
+    """Return the place on the half plane's line between p and q, which lie on unlike sides of it."""
     over, under = excess(plane, p), excess(plane, q)
     return place(over * q[0] - under * p[0], over * q[1] - under * p[1], over * q[2] - under * p[2])
+
+
+def cuts(plate, plane):
+    """Return the list of the places, no corners, at which sides of the plate cross the half plane's line."""
+    over = [excess(plane, p) for p in plate]
+    return [cut_off(plane, plate[k - 1], plate[k]) for k in range(len(plate)) if over[k - 1] * over[k] < 0]
 
 
 def cut_plate(plate, plane):
@@ -22,12 +28,7 @@ def cut_plate(plate, plane):
         return plate
     if len(kept) == 0:
         return None
-    for p, q in ways(plate):
-        if excess(plane, p) > 0 > excess(plane, q):
-            kept.append(cut_off(plane, p, q))
-        elif excess(plane, q) > 0 > excess(plane, p):
-            kept.append(cut_off(plane, q, p))
-    return hull(kept)
+    return hull(kept + cuts(plate, plane))
 
 
 def bounds(plate):

@@ -120,6 +120,11 @@ def in_triangle(a, b, c, p):
     return first >= 0 and second >= 0 and first + second <= 1
 
 
+def look_told(heap, p):
+    """Return the look at a place, not as the package works it out."""
+    return sum(weight for plate, weight in heap.rows() if is_in(plate, p))
+
+
 def halves():
     """Return half planes whose lines go along sides, through corners, through and past the zoo's plates."""
     return [
