@@ -46,3 +46,12 @@ def ascending_fractions(fractions):
     fine = greatest * greatest
     once = {s: True for s in fractions}
     return sorted(list(once), key=lambda s: s[0] * fine // s[1])
+
+
+def added_fractions(fractions):
+    """Return the sum of all the fractions of a list."""
+    if len(fractions) < 2:
+        return fractions[0] if len(fractions) == 1 else (0, 1)
+    # Halves first, so that few sums have long numbers.
+    middle = len(fractions) // 2
+    return plus(added_fractions(fractions[:middle]), added_fractions(fractions[middle:]))

@@ -3,7 +3,7 @@
 from plateheaps.errors import BadRow, BadText
 from plateheaps.fractions import fraction
 from plateheaps.heaps import is_lesser, summed
-from plateheaps.places import place
+from plateheaps.places import place_of
 from plateheaps.plates import is_plate
 
 FIGURES = "0123456789"
@@ -103,7 +103,7 @@ def read_place(words):
     x, y = read_fraction(first), read_fraction(second)
     if x is None or y is None:
         return None
-    return place(x[0] * y[1], y[0] * x[1], x[1] * y[1])
+    return place_of(x, y)
 
 
 def read_row(written):
@@ -111,9 +111,18 @@ def read_row(written):
     opening = written.find("[")
     weight = int(written[:opening])
     plate = tuple([read_place(words) for words in written[opening + 2:-2].split(") (")])
-    if weight == 0 or not is_plate(plate) or row_text(plate, weight) != written:
+    if not is_plate(plate) or row_text(plate, weight) != written:
         return None
     return (plate, weight)
+
+
+def read_lone_row(text):
+    """Return the row of a text, also with the weight 0, None if the text is none of a row."""
+    try:
+        end = behind_row(text, 0)
+    except BadText:
+        return None
+    return read_row(text) if end == len(text) else None
 
 
 def read_heap(text):
@@ -123,7 +132,7 @@ def read_heap(text):
     rows = []
     for number, written in enumerate(row_texts(text)):
         row = read_row(written)
-        if row is None or (number > 0 and not is_lesser(rows[-1][0], row[0])):
+        if row is None or row[1] == 0 or (number > 0 and not is_lesser(rows[-1][0], row[0])):
             raise BadRow(number)
         rows.append(row)
     return summed(rows)

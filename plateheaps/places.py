@@ -16,6 +16,11 @@ def place(x, y, d):
     return (x // common, y // common, d // common)
 
 
+def place_of(x, y):
+    """Return the place with these coordinates, fractions."""
+    return place(x[0] * y[1], y[0] * x[1], x[1] * y[1])
+
+
 def is_place(value):
     return are_numbers(value, 3) and value[2] > 0 and gcd(value[0], value[1], value[2]) == 1
 

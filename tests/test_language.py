@@ -3,6 +3,7 @@
 import ast
 import builtins
 import os
+import re
 import unittest
 from functools import cache
 
@@ -28,7 +29,7 @@ METHODS = set("""
 """.split())
 
 BARRED = (
-    ast.AsyncFunctionDef, ast.Await, ast.Global, ast.GeneratorExp, ast.Set, ast.SetComp, ast.Try, ast.With,
+    ast.AsyncFunctionDef, ast.Await, ast.Global, ast.GeneratorExp, ast.Set, ast.SetComp, ast.With,
     ast.AnnAssign, ast.NamedExpr, ast.Yield, ast.YieldFrom, ast.Div, ast.Import,
 )
 
@@ -187,11 +188,40 @@ class Statements(unittest.TestCase):
                     self.assertIsInstance(node.value, ast.Constant, (name, node.lineno))
                     self.assertIsInstance(node.value.value, int, (name, node.lineno))
 
+    def test_only_own_errors_are_caught(self):
+        own = [node.name for node in dict(trees())["errors.py"].body if isinstance(node, ast.ClassDef)]
+        for name, tree in trees():
+            for node in ast.walk(tree):
+                if isinstance(node, ast.Try):
+                    self.assertEqual(node.finalbody, [], (name, node.lineno))
+                    for handler in node.handlers:
+                        parts = handler.type.elts if isinstance(handler.type, ast.Tuple) else [handler.type]
+                        for part in parts:
+                            self.assertIn(part.id, own, (name, node.lineno))
+
     def test_raised_errors_are_made_on_the_spot(self):
         for name, tree in trees():
             for node in ast.walk(tree):
                 if isinstance(node, ast.Raise):
                     self.assertIsInstance(node.exc, ast.Call, (name, node.lineno))
+
+    def test_stars_in_calls_stand_before_own_functions_alone(self):
+        for name, tree in trees():
+            for node in ast.walk(tree):
+                if isinstance(node, ast.Call) and any(isinstance(part, ast.Starred) for part in node.args):
+                    self.assertNotIn(getattr(node.func, "id", ""), ALLOWED | LIBRARY["math"], (name, node.lineno))
+
+    def test_words_that_stand_nowhere(self):
+        words = re.compile(r"_wall|\b(type|typing|enum|Enum|Flag|Generic|Protocol|ABC|ABCMeta|namedtuple|NamedTuple)\b")
+        for name in files():
+            self.assertIsNone(words.search(text_of(name)), name)
+
+    def test_names_that_are_not_used(self):
+        barred = "register mro elements open input law dir exit id gc globals locals help license os quit super vars"
+        for name, tree in trees():
+            for node in ast.walk(tree):
+                for part in ("id", "arg", "attr", "name"):
+                    self.assertNotIn(getattr(node, part, ""), barred.split(), (name, getattr(node, "lineno", 0)))
 
     def test_no_method_sorts_in_place(self):
         for name, tree in trees():
