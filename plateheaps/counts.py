@@ -91,9 +91,7 @@ def count_up_to(plate, last):
     # From a low to a high y there are 1 + high rounded down + (-low) rounded down whole ones.
     parts = [side_sum(u, p, q, first, end) for u, p, q in sides(plate) if u[1] != 0]
     many = max(0, end - first + 1) + sum(parts)
-    if behind <= last and behind == greatest_x(plate):
-        many = many + filled(plate, behind)
-    return many
+    return many + filled(plate, behind) if behind <= last else many
 
 
 def count_of(plate):
@@ -154,8 +152,6 @@ def steps_on(p, q):
 
 def edge_steps(plate):
     """Return half the number of the least steps around a piece, or there and back along a stretch."""
-    if len(plate) == 1:
-        return (0, 1)
     return fraction(sum([steps_on(p, q) for p, q in ways(plate)]), 2)
 
 
